@@ -1,0 +1,1 @@
+"""Exitdeeds: deferred actions on a stack that grows as the body runs."""
