@@ -1,7 +1,8 @@
 """Actions: the check, the halves, and what a put statement puts."""
 
-from exitdeeds.errors import BadAction, UnknownCell, UnknownStep
+from exitdeeds.errors import BadAction, UnknownStep
 from exitdeeds.names import check_number
+from exitdeeds.stores import check_cell, shown
 
 GUARDS = ("done", "error", "always")
 CELL_WORDS = ("now", "late")
@@ -42,8 +43,7 @@ def check_argument(book, action):
     word, cell = argument
     if word not in CELL_WORDS:
         raise BadAction(action)
-    if cell not in dict(book.cells):
-        raise UnknownCell(cell)
+    check_cell(cell, book)
 
 
 def halves(action):
@@ -54,15 +54,23 @@ def halves(action):
     return (("done", step, argument, further), ("error", step, argument, ()))
 
 
+def reads_now(action):
+    """Whether the argument of the action itself is ("now", cell)."""
+    argument = action[2]
+    return isinstance(argument, tuple) and argument[0] == "now"
+
+
 def settled(action, book, store):
     """Return the halves that a put statement puts when the cells have these values."""
+    if not reads_now(action):
+        return halves(action)
     guard, step, argument, further = action
-    if isinstance(argument, tuple) and argument[0] == "now":
-        argument = value_of(argument[1], book, store)
-    return halves((guard, step, argument, further))
+    return halves((guard, step, shown(argument, book, store), further))
 
 
-def value_of(cell, book, store):
-    """Return the value of the cell of the book in the store."""
-    names = [name for name, _ in book.cells]
-    return store[names.index(cell)]
+def with_further(action):
+    """Return the list of the action and of all further actions in it, in reading order."""
+    found = [action]
+    for part in action[3]:
+        found.extend(with_further(part))
+    return found

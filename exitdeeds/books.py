@@ -89,7 +89,7 @@ class Book:
     @property
     def cells(self):
         """The tuple of the pairs (name, size), in ascending order of the names."""
-        return tuple([(name, self._sizes[name]) for name in sorted(self._sizes)])
+        return tuple([(name, self._sizes[name]) for name in sorted(self._sizes, key=str)])
 
     @property
     def stores(self):

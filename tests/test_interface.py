@@ -6,12 +6,39 @@ FUNCTIONS = {
     "names": {"check_name": ["name"], "check_number": ["number"]},
     "exits": {"state": ["pending"], "after": ["pending", "step", "kind", "guard", "answer"]},
     "actions": {"check_action": ["book", "action"], "halves": ["action"], "settled": ["action", "book", "store"]},
+    "worlds": {"worlds": ["longest"]},
+    "running": {"run": ["body", "world"]},
+    "writing": {"write": ["body"], "write_action": ["action"], "write_leaving": ["leaving"]},
 }
 METHODS = {
     ("books", "Book"): (
         "__init__", "of", "define", "add_cell", "cells", "stores", "__setitem__", "__getitem__",
         "__contains__", "__len__", "__iter__", "__or__", "__ior__", "__eq__",
     ),
+    ("bodies", "Body"): ("__init__", "__add__", "__mul__", "__rmul__", "__eq__", "__len__", "__call__", "actions"),
+    ("worlds", "World"): (
+        "__init__", "read", "text", "__len__", "__iter__", "__add__", "__lt__", "__le__", "__gt__", "__ge__", "__eq__",
+    ),
+    ("piles", "Pile"): (
+        "__init__", "put", "__iadd__", "__len__", "__iter__", "limit", "change_limit", "unwind", "cut", "lay",
+    ),
+}
+PROPERTIES = {
+    ("books", "Book"): ("cells", "stores"),
+    ("worlds", "World"): ("text",),
+    ("piles", "Pile"): ("limit",),
+}
+CLASS_METHODS = {("books", "Book"): ("of",), ("worlds", "World"): ("read",)}
+ARGUMENTS = {
+    ("books", "Book", "add_cell"): ["self", "name", "size"],
+    ("bodies", "Body", "__init__"): ["self", "book", "statements"],
+    ("bodies", "Body", "__call__"): ["self", "world"],
+    ("worlds", "World", "__init__"): ["self", "answers"],
+    ("piles", "Pile", "__init__"): ["self", "book"],
+    ("piles", "Pile", "change_limit"): ["self", "value"],
+    ("piles", "Pile", "unwind"): ["self", "pending", "store", "world"],
+    ("piles", "Pile", "cut"): ["self", "at"],
+    ("piles", "Pile", "lay"): ["self", "other"],
 }
 
 
@@ -33,6 +60,17 @@ class InterfaceTest(unittest.TestCase):
             self.assertEqual(kind.__module__, "exitdeeds." + file)
             for method in methods:
                 self.assertIn(method, vars(kind))
+
+    def test_properties_and_class_methods(self):
+        for table, form in ((PROPERTIES, property), (CLASS_METHODS, classmethod)):
+            for (file, word), names in table.items():
+                for name in names:
+                    self.assertIsInstance(vars(getattr(module_of(file), word))[name], form)
+
+    def test_arguments_of_methods(self):
+        for (file, word, method), arguments in ARGUMENTS.items():
+            function = vars(getattr(module_of(file), word))[method]
+            self.assertEqual(list(inspect.signature(function).parameters), arguments)
 
 
 if __name__ == "__main__":

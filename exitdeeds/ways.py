@@ -1,0 +1,44 @@
+"""The way out: the actions are taken off the stack while an exit is pending."""
+
+from exitdeeds.actions import halves
+from exitdeeds.exits import after, state
+from exitdeeds.stores import shown
+
+
+def way_out(book, stack, leaving, answers):
+    """Run the way out of a leaving, with a stack of halves that is used up.
+
+    Return (rows, pending, half). `half` is the one whose question has no
+    answer left; it has been taken off the stack already. It is None if the way
+    out came to its end, and then `pending` is the exit that shows.
+    """
+    pending, store = leaving
+    rows = []
+    half = topmost(stack, pending)
+    while half is not None and len(rows) < len(answers):
+        guard, step, argument, further = half
+        answer = answers[len(rows)]
+        rows.append(("way", step, shown(argument, book, store), answer))
+        pending = after(pending, step, book[step], guard, answer)
+        if answer == 1:
+            put_all(stack, further)
+        half = topmost(stack, pending)
+    return rows, pending, half
+
+
+def topmost(stack, pending):
+    """Take halves off the stack up to the first one that is asked, and return that one.
+
+    If all of them are dropped, it returns None.
+    """
+    while stack:
+        half = stack.pop()
+        if half[0] == state(pending):
+            return half
+    return None
+
+
+def put_all(stack, actions):
+    """Put the halves of these actions on the stack, as they are."""
+    for action in actions:
+        stack.extend(halves(action))
