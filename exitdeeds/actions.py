@@ -54,6 +54,11 @@ def halves(action):
     return (("done", step, argument, further), ("error", step, argument, ()))
 
 
+def all_halves(word):
+    """Return the list of the halves of these actions, in the order in which they are put."""
+    return [half for action in word for half in halves(action)]
+
+
 def reads_now(action):
     """Whether the argument of the action itself is ("now", cell)."""
     argument = action[2]

@@ -76,24 +76,24 @@ def left_by(statement, book, store):
 def ahead(book, flow, at, store):
     """Run from the statement with the number `at` to the next question, or until the body leaves.
 
-    Return (at, left, store, puts). `left` is the exit, or None before the
-    question of the statement `at`. `puts` is the list of the halves that were
-    put on the way.
+    Return (at, left, store, passed). `left` is the exit, or None before the
+    question of the statement `at`. `passed` is the list of the put statements
+    on the way, as pairs (number, store) with the store at that time.
     """
-    puts = []
+    passed = []
     while at < len(flow):
         statement, no, yes = flow[at]
         left = left_by(statement, book, store)
         if left is not None or statement[0] in ASKING:
-            return at, left, store, puts
+            return at, left, store, passed
         if statement[0] == "put":
-            puts.extend(settled(statement[1], book, store))
+            passed.append((at, store))
         if statement[0] == "set":
             store = with_value(statement[1], statement[2], book, store)
         at = yes
         if statement[0] == "when" and value_of(statement[1], book, store) != statement[2]:
             at = no
-    return at, ("return", 0), store, puts
+    return at, ("return", 0), store, passed
 
 
 def answered(book, flow, at, store, answer):
@@ -104,3 +104,11 @@ def answered(book, flow, at, store, answer):
     if statement[0] == "do":
         return at, ("raise", statement[1]), store, []
     return ahead(book, flow, no, store)
+
+
+def halves_put(book, flow, passed):
+    """Return the list of the halves that these put statements put, in order."""
+    found = []
+    for at, store in passed:
+        found.extend(settled(flow[at][0][1], book, store))
+    return found

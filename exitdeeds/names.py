@@ -8,13 +8,17 @@ LONGEST_NAME = 12
 GREATEST_NUMBER = 999
 
 
+def is_name(text):
+    """Whether the string is a name."""
+    if not 1 <= len(text) <= LONGEST_NAME or text[0] not in LETTERS:
+        return False
+    return all([letter in LETTERS_AND_DIGITS for letter in text])
+
+
 def check_name(name):
     """Return the name; raise BadName for a string that is not a name."""
-    if not 1 <= len(name) <= LONGEST_NAME or name[0] not in LETTERS:
+    if not is_name(name):
         raise BadName(name)
-    for letter in name:
-        if letter not in LETTERS_AND_DIGITS:
-            raise BadName(name)
     return name
 
 

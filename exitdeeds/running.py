@@ -1,8 +1,8 @@
 """Running a body."""
 
-from exitdeeds.flows import ahead, answered, ask_of, flow_of
+from exitdeeds.flows import ahead, answered, ask_of, flow_of, halves_put
 from exitdeeds.stores import first_store
-from exitdeeds.ways import way_out
+from exitdeeds.ways import with_way_out
 
 
 def run(body, world):
@@ -10,12 +10,7 @@ def run(body, world):
     rows, stack, left, store = inside(body, world.answers)
     if left is None:
         return rows
-    answers = world.answers[len(rows):]
-    way_rows, pending, half = way_out(body.book, stack, (left, store), answers)
-    rows = [*rows, ("out", left, store), *way_rows]
-    if half is None:
-        rows.append(("end", pending))
-    return rows
+    return with_way_out(body.book, rows, (left, store), stack, world)
 
 
 def inside(body, answers):
@@ -27,10 +22,11 @@ def inside(body, answers):
     book = body.book
     flow = flow_of(body.statements)
     rows = []
-    at, left, store, stack = ahead(book, flow, 0, first_store(book))
+    at, left, store, passed = ahead(book, flow, 0, first_store(book))
+    stack = halves_put(book, flow, passed)
     while left is None and len(rows) < len(answers):
         answer = answers[len(rows)]
         rows.append((*ask_of(flow[at][0], book, store), answer))
-        at, left, store, puts = answered(book, flow, at, store, answer)
-        stack.extend(puts)
+        at, left, store, passed = answered(book, flow, at, store, answer)
+        stack.extend(halves_put(book, flow, passed))
     return rows, stack, left, store

@@ -1,6 +1,6 @@
 """The way out: the actions are taken off the stack while an exit is pending."""
 
-from exitdeeds.actions import halves
+from exitdeeds.actions import all_halves
 from exitdeeds.exits import after, state
 from exitdeeds.stores import shown
 
@@ -21,9 +21,21 @@ def way_out(book, stack, leaving, answers):
         rows.append(("way", step, shown(argument, book, store), answer))
         pending = after(pending, step, book[step], guard, answer)
         if answer == 1:
-            put_all(stack, further)
+            stack.extend(all_halves(further))
         half = topmost(stack, pending)
     return rows, pending, half
+
+
+def with_way_out(book, rows, leaving, stack, world):
+    """Return the run that has these rows until its body makes the leaving, with this stack.
+
+    Each of the rows has used one answer of the world.
+    """
+    way_rows, pending, half = way_out(book, stack, leaving, world.answers[len(rows):])
+    found = [*rows, ("out", *leaving), *way_rows]
+    if half is None:
+        found.append(("end", pending))
+    return found
 
 
 def topmost(stack, pending):
@@ -36,9 +48,3 @@ def topmost(stack, pending):
         if half[0] == state(pending):
             return half
     return None
-
-
-def put_all(stack, actions):
-    """Put the halves of these actions on the stack, as they are."""
-    for action in actions:
-        stack.extend(halves(action))

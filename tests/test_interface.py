@@ -9,6 +9,13 @@ FUNCTIONS = {
     "worlds": {"worlds": ["longest"]},
     "running": {"run": ["body", "world"]},
     "writing": {"write": ["body"], "write_action": ["action"], "write_leaving": ["leaving"]},
+    "reading": {"read": ["book", "text"]},
+    "plans": {"plan": ["body"]},
+    "words": {
+        "states_below": ["word", "states", "book"], "normal": ["word", "book"], "live": ["word", "states", "book"],
+        "agenda": ["word", "leaving", "book"],
+    },
+    "showing": {"shows": ["body"], "world_for": ["body", "shown"], "never": ["body"]},
 }
 METHODS = {
     ("books", "Book"): (
@@ -22,6 +29,8 @@ METHODS = {
     ("piles", "Pile"): (
         "__init__", "put", "__iadd__", "__len__", "__iter__", "limit", "change_limit", "unwind", "cut", "lay",
     ),
+    ("charts", "Chart"): ("__len__", "__iter__", "targets", "beginning", "leavings", "describe"),
+    ("plans", "Plan"): ("run", "describe"),
 }
 PROPERTIES = {
     ("books", "Book"): ("cells", "stores"),
@@ -39,6 +48,9 @@ ARGUMENTS = {
     ("piles", "Pile", "unwind"): ["self", "pending", "store", "world"],
     ("piles", "Pile", "cut"): ["self", "at"],
     ("piles", "Pile", "lay"): ["self", "other"],
+    ("charts", "Chart", "targets"): ["self", "row"],
+    ("charts", "Chart", "beginning"): ["self", "row"],
+    ("plans", "Plan", "run"): ["self", "book", "world"],
 }
 
 
