@@ -1,8 +1,8 @@
 """Open states: the states that can be pending at a row when all that was put behind it has been taken off."""
 
-from exitdeeds.charts import links_by_target
+from exitdeeds.charts import links_by_target, links_of, out_row_of
 from exitdeeds.exits import state
-from exitdeeds.words import BOTH, states_below
+from exitdeeds.words import BOTH, normal, states_below, with_values
 
 
 def open_states(links, goals, book):
@@ -23,6 +23,25 @@ def open_states(links, goals, book):
                 found[row] = states
                 waiting.append(row)
     return found
+
+
+def opened_for(chart, leaving, book):
+    """Return a dict of the open states of each row of a plan from which the leaving can be made."""
+    out = out_row_of(chart, leaving)
+    return open_states(links_of(chart), {out: (state(leaving[0]),)}, book)
+
+
+def links_for(chart, leaving, book):
+    """Return the links of a plan that are on a way to the leaving.
+
+    Instead of its puts each link has their normal form, with the arguments
+    replaced for the leaving.
+    """
+    opened = opened_for(chart, leaving, book)
+    return [
+        (row, answer, target, normal(with_values(puts, book, leaving[1]), book))
+        for row, answer, target, puts in links_of(chart) if target in opened
+    ]
 
 
 def united(first, second):

@@ -27,14 +27,19 @@ def states_below(word, states, book):
     return states
 
 
-def live_halves(word, states, book):
-    """Return the halves of a normal form that are not dead for the states."""
+def sifted(word, states, book):
+    """Return the halves of a normal form that are not dead for the states, and the states below all of them."""
     found = []
     for half in word[::-1]:
         if half[0] in states:
             found.append(half)
         states = below(half, states, book)
-    return tuple(found[::-1])
+    return tuple(found[::-1]), states
+
+
+def live_halves(word, states, book):
+    """Return the halves of a normal form that are not dead for the states."""
+    return sifted(word, states, book)[0]
 
 
 def normal(word, book):

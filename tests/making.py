@@ -1,11 +1,13 @@
 """Bodies, words and worlds for the tests. The random ones are the same in every run."""
 import random
+import unittest
 
 from exitdeeds.bodies import Body
 from exitdeeds.books import Book
 from exitdeeds.errors import DeedError
 from exitdeeds.reading import read
-from exitdeeds.worlds import World
+from exitdeeds.running import run
+from exitdeeds.worlds import World, worlds
 
 KINDS = {
     "work": ("plain",), "undo": ("plain",), "gain": ("answer", 8), "away": ("jump", "home"),
@@ -109,3 +111,33 @@ class Maker:
     def world(self, many):
         share = self.random.choice([0.2, 0.5, 0.8, 0.95])
         return World([int(self.random.random() < share) for _ in range(many)])
+
+
+class ChartCase(unittest.TestCase):
+    """Compares charts that are made from texts, and their runs with those of the bodies."""
+
+    def check_chart(self, make, rows, start, text, *cells):
+        body = body_of(text, *cells)
+        made = make(body)
+        self.assertEqual(list(made.rows), rows)
+        self.assertEqual(made.start, start)
+        self.same_runs(made, body, 6)
+
+    def same_runs(self, made, body, longest):
+        for world in worlds(longest):
+            self.assertEqual(made.run(body.book, world), run(body, world), world.text)
+
+    def check_random_runs(self, make):
+        for seed in range(120):
+            maker = Maker(seed)
+            body = maker.body()
+            made = make(body)
+            self.same_runs(made, body, 6)
+            for many in (12, 40, 40, 40):
+                world = maker.world(many)
+                self.assertEqual(made.run(body.book, world), run(body, world))
+
+    def check_a_long_run(self, make):
+        body = body_of(lines("while a", "  put work on done [undo on done]", "end"))
+        world = World.read("1" * 1500 + "0" + "1" * 3000)
+        self.assertEqual(make(body).run(body.book, world), run(body, world))

@@ -1,11 +1,11 @@
 import unittest
 
 from exitdeeds.charts import Chart
+from exitdeeds.families import family
 from exitdeeds.plans import plan
 from exitdeeds.worlds import World, worlds
 from tests.making import Maker, body_of, lines
-
-LOOP = lines("while more", "  do work", "  put undo on error", "end", "return 1")
+from tests.texts import LOOP
 
 
 def reached(chart, world):
@@ -21,7 +21,9 @@ def reached(chart, world):
 class ChartTest(unittest.TestCase):
     def charts(self):
         for seed in range(60):
-            yield plan(Maker(seed).body())
+            body = Maker(seed).body()
+            yield plan(body)
+            yield family(body)
 
     def test_len_and_iteration(self):
         chart = plan(body_of(LOOP))
@@ -35,6 +37,7 @@ class ChartTest(unittest.TestCase):
         chart = plan(body_of(LOOP))
         self.assertEqual([chart.targets(row) for row in range(4)], [(1, 2), (), (3, 0), ()])
         self.assertEqual(chart.targets(row=2), (3, 0))
+        self.assertEqual(family(body_of(LOOP)).targets(2), (3, 0))
 
     def test_beginning(self):
         chart = plan(body_of(LOOP))
@@ -67,7 +70,8 @@ class ChartTest(unittest.TestCase):
                      "  return 9", "end", "if a", "  raise z", "end", "if a", "  leave z", "end", "return 9")
         found = [(("leave", "z"), (0,)), (("raise", "z"), (0,)), (("return", 9), (0,)), (("return", 9), (1,)),
                  (("return", 9), (2,)), (("return", 10), (0,))]
-        self.assertEqual(plan(body_of(text, ("n", 3))).leavings(), found)
+        for made in (plan, family):
+            self.assertEqual(made(body_of(text, ("n", 3))).leavings(), found)
 
     def test_each_leaving_once(self):
         text = lines("if a", "  return 1", "else", "  if b", "    return 1", "  end", "end", "do work", "return 1")

@@ -16,6 +16,10 @@ FUNCTIONS = {
         "agenda": ["word", "leaving", "book"],
     },
     "showing": {"shows": ["body"], "world_for": ["body", "shown"], "never": ["body"]},
+    "lying": {"lying": ["body", "leaving"]},
+    "pairs": {"alike": ["first", "second"], "parting": ["first", "second"], "leads": ["first", "second"]},
+    "families": {"family": ["body"]},
+    "rewriting": {"pruned": ["body"], "early": ["body"]},
 }
 METHODS = {
     ("books", "Book"): (
@@ -31,13 +35,18 @@ METHODS = {
     ),
     ("charts", "Chart"): ("__len__", "__iter__", "targets", "beginning", "leavings", "describe"),
     ("plans", "Plan"): ("run", "describe"),
+    ("agendas", "Agendas"): (
+        "of", "__contains__", "__or__", "__and__", "__sub__", "__xor__", "__eq__", "__bool__", "finite", "size", "words",
+    ),
+    ("families", "Family"): ("__eq__", "run", "describe"),
 }
 PROPERTIES = {
     ("books", "Book"): ("cells", "stores"),
     ("worlds", "World"): ("text",),
     ("piles", "Pile"): ("limit",),
+    ("agendas", "Agendas"): ("finite", "size"),
 }
-CLASS_METHODS = {("books", "Book"): ("of",), ("worlds", "World"): ("read",)}
+CLASS_METHODS = {("books", "Book"): ("of",), ("worlds", "World"): ("read",), ("agendas", "Agendas"): ("of",)}
 ARGUMENTS = {
     ("books", "Book", "add_cell"): ["self", "name", "size"],
     ("bodies", "Body", "__init__"): ["self", "book", "statements"],
@@ -51,6 +60,8 @@ ARGUMENTS = {
     ("charts", "Chart", "targets"): ["self", "row"],
     ("charts", "Chart", "beginning"): ["self", "row"],
     ("plans", "Plan", "run"): ["self", "book", "world"],
+    ("agendas", "Agendas", "words"): ["self", "longest"],
+    ("families", "Family", "run"): ["self", "book", "world"],
 }
 
 

@@ -2,9 +2,9 @@ import unittest
 
 from exitdeeds.charts import Chart
 from exitdeeds.plans import Plan, plan
-from exitdeeds.running import run
-from exitdeeds.worlds import World, worlds
-from tests.making import Maker, act, body_of, lines, sample_book
+from exitdeeds.worlds import World
+from tests.making import ChartCase, act, body_of, lines, sample_book
+from tests.texts import LOOP
 
 UNDO = act("error", "undo")
 
@@ -13,23 +13,13 @@ def out(left, *store):
     return (("out", left, store),)
 
 
-class PlanCase(unittest.TestCase):
+class PlanCase(ChartCase):
     def check(self, rows, start, text, *cells):
-        body = body_of(text, *cells)
-        made = plan(body)
-        self.assertEqual(list(made.rows), rows)
-        self.assertEqual(made.start, start)
-        self.same_runs(made, body, 6)
-
-    def same_runs(self, made, body, longest):
-        for world in worlds(longest):
-            self.assertEqual(made.run(body.book, world), run(body, world), world.text)
+        self.check_chart(plan, rows, start, text, *cells)
 
 
 class ExampleTest(PlanCase):
     """The example of point 29."""
-
-    TEXT = lines("while more", "  do work", "  put undo on error", "end", "return 1")
 
     def test_rows(self):
         self.check(
@@ -39,14 +29,14 @@ class ExampleTest(PlanCase):
                 (("do", "work", None), (3, ()), (0, (UNDO,))),
                 out(("raise", "work")),
             ],
-            (), self.TEXT,
+            (), LOOP,
         )
 
     def test_describe(self):
-        self.assertEqual(plan(body_of(self.TEXT)).describe(), "4 rows, 1 puts")
+        self.assertEqual(plan(body_of(LOOP)).describe(), "4 rows, 1 puts")
 
     def test_kind(self):
-        made = plan(body=body_of(self.TEXT))
+        made = plan(body=body_of(LOOP))
         self.assertIsInstance(made, Plan)
         self.assertIsInstance(made, Chart)
         self.assertEqual(made.run(book=sample_book(), world=World.read("10")), [
@@ -172,22 +162,13 @@ class RowTest(PlanCase):
 
 class RunTest(PlanCase):
     def test_the_run_of_a_plan_is_the_run_of_its_body(self):
-        for seed in range(120):
-            maker = Maker(seed)
-            body = maker.body()
-            made = plan(body)
-            self.same_runs(made, body, 6)
-            for many in (12, 40, 40):
-                world = maker.world(many)
-                self.assertEqual(made.run(body.book, world), run(body, world))
+        self.check_random_runs(plan)
 
     def test_a_long_world(self):
-        body = body_of(lines("while a", "  put work on done [undo on done]", "end"))
-        world = World.read("1" * 2000 + "0" + "1" * 4000)
-        self.assertEqual(plan(body).run(body.book, world), run(body, world))
+        self.check_a_long_run(plan)
 
     def test_a_plan_does_not_depend_on_the_body(self):
-        body = body_of(ExampleTest.TEXT)
+        body = body_of(LOOP)
         made = plan(body)
         body.book["undo"] = ("heal", 3)
         found = made.run(body.book, World.read("11101"))

@@ -5,8 +5,7 @@ from exitdeeds.running import run
 from exitdeeds.showing import never, shows, world_for
 from exitdeeds.worlds import World, worlds
 from tests.making import Maker, body_of, lines, used
-
-LOOP = lines("while more", "  do work", "  put undo on error", "end", "return 1")
+from tests.texts import LOOP
 
 
 def finished(body, longest):
