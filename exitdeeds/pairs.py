@@ -10,8 +10,6 @@ from exitdeeds.running import inside
 from exitdeeds.words import agenda, live, live_halves, sifted, with_values
 from exitdeeds.worlds import World
 
-START = (-1, -1)
-
 
 def alike(first, second):
     """Whether the runs of the two bodies are equal for every world."""
@@ -95,17 +93,18 @@ def meetings(left, right):
 
 
 def joint_links(charts, met, leaving, book):
-    """Return the links between the pairs of rows on the ways to the leaving, with both words."""
-    sides = [
-        {(row, answer): (target, word) for row, answer, target, word in links_for(chart, leaving, book)}
-        for chart in charts
-    ]
+    """Return the links between the pairs of rows on the ways to the leaving, with both words.
+
+    The puts at the start are a link from the pair (-1, -1).
+    """
+    left, right = [{link[:2]: link[2:] for link in links_for(chart, leaving, book)} for chart in charts]
     links = []
-    for pair in [START, *met]:
+    for pair in [(-1, -1), *met]:
         for answer in (0, 1):
-            if (pair[0], answer) in sides[0]:
-                ends = [side[(row, answer)] for side, row in zip(sides, pair)]
-                links.append((pair, answer, (ends[0][0], ends[1][0]), (ends[0][1], ends[1][1])))
+            if (pair[0], answer) in left:
+                one, word = left[(pair[0], answer)]
+                two, other = right[(pair[1], answer)]
+                links.append((pair, answer, (one, two), (word, other)))
     return links
 
 
@@ -121,21 +120,23 @@ def suspects(charts, met, leaving, book):
     into = links_by_target(joint_links(charts, met, leaving, book))
     states = (state(leaving[0]),)
     outs = (out_row_of(charts[0], leaving), out_row_of(charts[1], leaving))
-    known = {(outs, states, states): (((), ()), ())}
-    waiting = list(known)
-    while waiting:
-        place = waiting.pop()
+    places = [(outs, states, states)]
+    known = {places[0]: (((), ()), ())}
+    at = 0
+    while at < len(places):
+        place = places[at]
+        at = at + 1
         for link in into.get(place[0], []):
             pair = link[0]
             before, rests, answers = step_back(link, place, known[place], book)
-            if pair == START:
+            if pair[0] < 0:
                 if rests != ((), ()):
                     return [answers]
             elif rests[0] and rests[1]:
                 return [met[pair] + answers]
             elif before not in known:
                 known[before] = (rests, answers)
-                waiting.append(before)
+                places.append(before)
             elif known[before][0] != rests:
                 return [met[pair] + answers, met[pair] + known[before][1]]
     return []
@@ -148,7 +149,7 @@ def step_back(link, place, reached, book):
     first, first_states = sifted(put[0], place[1], book)
     second, second_states = sifted(put[1], place[2], book)
     rests = without_common_end(first + left, second + right)
-    if pair != START:
+    if pair[0] >= 0:
         answers = (answer, *answers)
     return (pair, first_states, second_states), rests, answers
 

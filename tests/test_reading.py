@@ -212,6 +212,17 @@ class FormTest(ReadCase):
                     "put sign [undo on done] on done", "put sign on done; undo on done"):
             self.malformed(row)
 
+    def test_a_bracket_that_is_not_closed(self):
+        for row in ("do sign(12", "do sign(nn", "do sign(12]", "put sign(12 on done", "put sign(late nn on done",
+                    "put sign on done [undo on donee", "put sign on done [undo on done)",
+                    "put sign on done [sign on done [undo on done]", "put sign on done [undo(12 on done]"):
+            self.malformed(row)
+
+    def test_a_character_before_the_line(self):
+        for code in range(33, 127):
+            for row in ("do sign", "if more", "put sign on done", "leave x"):
+                self.malformed(chr(code) + row)
+
     def test_brackets_more_than_2_deep(self):
         self.malformed("put sign on done [undo on done [undo on done [sign on done]]]")
         self.malformed("put sign on done [undo on done; undo on done [sign on done; undo on error [sign on done]]]")

@@ -168,6 +168,8 @@ class NeverTest(unittest.TestCase):
         text = lines("put undo on error", "if a", "  raise x", "end")
         self.check([], text)
         self.check([0], lines("put undo on error", "if a", "  leave x", "end"))
+        self.check([0], lines("put undo on done", "do work", "raise x"))
+        self.check([0], lines("put undo on done", "while a", "end", "if b", "  raise y", "end", "raise x"))
         self.check([], lines("put undo on error", "do work"))
 
     def test_in_a_loop(self):
