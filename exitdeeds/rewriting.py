@@ -9,7 +9,7 @@ from exitdeeds.openings import opened_for
 from exitdeeds.plans import plan
 from exitdeeds.routes import routes
 from exitdeeds.statements import blocks_of
-from exitdeeds.stores import value_of
+from exitdeeds.stores import shown
 
 
 def pruned(body):
@@ -53,7 +53,7 @@ def early(body):
 
 
 def late_puts(body, flow):
-    """Return a dict whose keys are the put statements with a late argument that can show another value."""
+    """Return a dict whose keys are the put statements whose cells can show another value when they are read late."""
     chart = plan(body)
     links = links_of(routes(body))
     found = {}
@@ -61,16 +61,9 @@ def late_puts(body, flow):
         opened = opened_for(chart, leaving, body.book)
         for _, _, target, passed in links:
             for at, store, half in asked_puts(body.book, flow, passed, opened.get(target, ())):
-                if differs(half[2], body.book, store, leaving[1]):
+                if shown(half[2], body.book, store) != shown(half[2], body.book, leaving[1]):
                     found[at] = True
     return found
-
-
-def differs(argument, book, store, other):
-    """Whether the argument is read late and shows another value in the one store than in the other."""
-    if not isinstance(argument, tuple) or argument[0] != "late":
-        return False
-    return value_of(argument[1], book, store) != value_of(argument[1], book, other)
 
 
 def with_actions(block, start, actions):

@@ -189,6 +189,23 @@ class LeastTest(FamilyCase):
             (), text,
         )
 
+    def test_rows_that_differ_in_the_puts_of_one_answer(self):
+        def put(step):
+            return ((END, (act("done", step),)),)
+        test = ("test", "b")
+        self.check(
+            [(("test", "a"), (1, ()), (2, ())), (test, (3, put("cure")), (3, ())), (test, (3, put("gain")), (3, ())),
+             out(END)],
+            (), lines("if a", "  if b", "  else", "    put gain on done", "  end", "else", "  if b", "  else",
+                      "    put cure on done", "  end", "end"),
+        )
+        self.check(
+            [(("test", "a"), (1, ()), (2, ())), (test, (3, ()), (3, put("cure"))), (test, (3, ()), (3, put("gain"))),
+             out(END)],
+            (), lines("if a", "  if b", "    put gain on done", "  end", "else", "  if b", "    put cure on done",
+                      "  end", "end"),
+        )
+
     def test_loops(self):
         rows = [(("test", "a"), (1, ()), (0, ((END, (WORK,)),))), out(END)]
         for text in (

@@ -204,6 +204,7 @@ class LeadsTest(unittest.TestCase):
         found = leads(body_of(LOOP), body_of(unrolled))
         self.assertEqual(found, sorted(found))
         self.assertEqual({entry[3:] for entry in found}, {("even", ())})
+        self.assertEqual(len(leads(body_of(unrolled), body_of(LOOP))), len(found))
         self.assertEqual([entry[:3] for entry in found], [
             (0, 0, RAISED), (0, 0, end), (0, 4, RAISED), (0, 4, end), (1, 1, end), (2, 2, RAISED), (2, 2, end),
             (2, 5, RAISED), (2, 5, end), (3, 3, RAISED),

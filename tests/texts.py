@@ -53,6 +53,17 @@ DIFFERENT = (
     (lines("while a", "  put work on done", "end"), lines("put work on done", "while a", "  put work on done", "end")),
     (lines("while a", "  put work on done", "  put undo on done", "end"),
      lines("while a", "  put undo on done", "  put work on done", "end")),
+    # One of the two puts `work` later, on one way too late; `undo` is dead.
+    (lines("put work on done", "put undo on error", "if a", "end"), lines("if a", "else", "  put work on done", "end")),
+    # A loop that is unrolled once, so the two plans have other numbers for the same leaving.
+    (lines("while b", "  if a", "    leave x", "  end", "  put work on done", "end", "raise y"),
+     lines("if b", "  if a", "    leave x", "  end", "  put work on done", "  while b", "    if a", "      leave x", "    end",
+           "    put undo on done", "  end", "end", "raise y")),
+    # Rows that differ in what one of their answers puts.
+    (lines("if a", "  if b", "  else", "    put gain on done", "  end", "else", "  if b", "  else", "    put cure on done",
+           "  end", "end"), lines("if a", "end", "if b", "else", "  put gain on done", "end")),
+    (lines("if a", "  if b", "    put gain on done", "  end", "else", "  if b", "    put cure on done", "  end", "end"),
+     lines("if a", "end", "if b", "  put gain on done", "end")),
     # These differ in the third turn first.
     (lines("while a", "  put work on done", "end"),
      lines("if a", "  put work on done", "  if a", "    put work on done", "    while a", "      put undo on done", "    end",
