@@ -21,7 +21,7 @@ class Family(Chart):
         if len(self.rows[row]) > 1:
             return asked
         leaving = self.rows[row][0][1:]
-        stack = [half for puts in passed for goal, word in puts if goal == leaving for half in word]
+        stack = [half for puts in passed for half in word_for(puts, leaving)]
         return with_way_out(book, asked, leaving, stack, world)
 
     def describe(self):
@@ -32,6 +32,14 @@ class Family(Chart):
 
     def __eq__(self, other):
         return isinstance(other, Family) and self.rows == other.rows and self.start == other.start
+
+
+def word_for(puts, leaving):
+    """Return the word that these puts of a family put for the leaving."""
+    for goal, word in puts:
+        if goal == leaving:
+            return word
+    return ()
 
 
 def family(body):
