@@ -20,6 +20,13 @@ FUNCTIONS = {
     "pairs": {"alike": ["first", "second"], "parting": ["first", "second"], "leads": ["first", "second"]},
     "families": {"family": ["body"]},
     "rewriting": {"pruned": ["body"], "early": ["body"]},
+    "nesting": {"bounded": ["body"], "nested": ["body"]},
+    "tables": {"table": ["chart"]},
+    "logs": {"replayed": ["body", "log"]},
+    "remainders": {"remainder": ["chart", "book", "world"], "parting_world": ["first", "second", "book"]},
+    "passages": {"passages": ["body", "rule"], "breaking": ["body", "rule"], "keeps": ["body", "rule"]},
+    "policies": {"policy": ["body", "tests", "exits"]},
+    "covers": {"cover": ["body"]},
 }
 METHODS = {
     ("books", "Book"): (
@@ -39,14 +46,35 @@ METHODS = {
         "of", "__contains__", "__or__", "__and__", "__sub__", "__xor__", "__eq__", "__bool__", "finite", "size", "words",
     ),
     ("families", "Family"): ("__eq__", "run", "describe"),
+    ("nesting", "Nested"): ("targets", "leavings", "depth", "stack", "run", "describe"),
+    ("desks", "Desk"): (
+        "__init__", "__setitem__", "__getitem__", "__contains__", "__len__", "__iter__", "load", "classes",
+    ),
+    ("walks", "Walk"): (
+        "__init__", "answer", "back", "mark", "go", "change", "undo", "redo", "text", "read", "__len__", "__eq__",
+    ),
+    ("rules", "Rule"): ("__init__", "next_state", "reached", "__and__", "against"),
+    ("policies", "Policy"): ("answer",),
 }
 PROPERTIES = {
     ("books", "Book"): ("cells", "stores"),
     ("worlds", "World"): ("text",),
     ("piles", "Pile"): ("limit",),
     ("agendas", "Agendas"): ("finite", "size"),
+    ("nesting", "Nested"): ("depth",),
+    ("walks", "Walk"): ("text",),
 }
-CLASS_METHODS = {("books", "Book"): ("of",), ("worlds", "World"): ("read",), ("agendas", "Agendas"): ("of",)}
+CLASS_METHODS = {
+    ("books", "Book"): ("of",), ("worlds", "World"): ("read",), ("agendas", "Agendas"): ("of",),
+    ("walks", "Walk"): ("read",), ("rules", "Rule"): ("against",),
+}
+CLASS_VALUES = {
+    ("books", "Book"): {"STEPS": 12, "CELLS": 2},
+    ("bodies", "Body"): {"STATEMENTS": 24, "DEPTH": 4, "SIZE": 120},
+    ("walks", "Walk"): {"MARKS": 9},
+    ("rules", "Rule"): {"STATES": 99},
+}
+GENERATORS = (("worlds", "worlds"), ("tables", "table"), ("agendas", "Agendas", "words"), ("desks", "Desk", "classes"))
 ARGUMENTS = {
     ("books", "Book", "add_cell"): ["self", "name", "size"],
     ("bodies", "Body", "__init__"): ["self", "book", "statements"],
@@ -62,6 +90,27 @@ ARGUMENTS = {
     ("plans", "Plan", "run"): ["self", "book", "world"],
     ("agendas", "Agendas", "words"): ["self", "longest"],
     ("families", "Family", "run"): ["self", "book", "world"],
+    ("nesting", "Nested", "targets"): ["self", "row"],
+    ("nesting", "Nested", "stack"): ["self", "level"],
+    ("nesting", "Nested", "run"): ["self", "book", "world"],
+    ("desks", "Desk", "__init__"): ["self", "book"],
+    ("walks", "Walk", "__init__"): ["self", "body"],
+    ("walks", "Walk", "answer"): ["self", "answer"],
+    ("walks", "Walk", "back"): ["self", "count"],
+    ("walks", "Walk", "mark"): ["self", "name"],
+    ("walks", "Walk", "go"): ["self", "name"],
+    ("walks", "Walk", "change"): ["self", "body"],
+    ("walks", "Walk", "undo"): ["self"],
+    ("walks", "Walk", "redo"): ["self"],
+    ("rules", "Rule", "__init__"): ["self", "states", "moves"],
+    ("rules", "Rule", "next_state"): ["self", "before", "row"],
+    ("rules", "Rule", "reached"): ["self", "rows"],
+    ("policies", "Policy", "answer"): ["self", "world"],
+}
+CLASS_METHOD_ARGUMENTS = {
+    ("worlds", "World", "read"): ["text"],
+    ("walks", "Walk", "read"): ["body", "text"],
+    ("rules", "Rule", "against"): ["rows"],
 }
 
 
@@ -94,6 +143,23 @@ class InterfaceTest(unittest.TestCase):
         for (file, word, method), arguments in ARGUMENTS.items():
             function = vars(getattr(module_of(file), word))[method]
             self.assertEqual(list(inspect.signature(function).parameters), arguments)
+
+    def test_arguments_of_class_methods(self):
+        for (file, word, method), arguments in CLASS_METHOD_ARGUMENTS.items():
+            function = getattr(getattr(module_of(file), word), method)
+            self.assertEqual(list(inspect.signature(function).parameters), arguments)
+
+    def test_class_values(self):
+        for (file, word), expected in CLASS_VALUES.items():
+            values = vars(getattr(module_of(file), word))
+            self.assertEqual({name: values[name] for name in expected}, expected)
+
+    def test_what_yields(self):
+        for file, *words in GENERATORS:
+            thing = module_of(file)
+            for word in words:
+                thing = vars(thing)[word]
+            self.assertTrue(inspect.isgeneratorfunction(thing), words)
 
 
 if __name__ == "__main__":
