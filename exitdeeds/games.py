@@ -75,7 +75,7 @@ def ranks_of(following, won, own):
     last = list(ranks)
     rank = 0
     while last:
-        reached = [place for other in last for place in into.get(other, []) if place not in ranks]
+        reached = [place for other in last for place in into.get(other, [])]
         last = []
         for place in reached:
             known = [other in ranks and ranks[other] <= rank for other in following[place]]

@@ -20,6 +20,12 @@ def both_ways(first, second, *cells):
     return ((body_of(first, *cells), body_of(second, *cells)), (body_of(second, *cells), body_of(first, *cells)))
 
 
+def choice(first, second):
+    """A choice between two texts."""
+    return lines("if q", *["  " + line for line in first.split("\n") if first], "else",
+                 *["  " + line for line in second.split("\n") if second], "end")
+
+
 def place_of(chart, world):
     """The row to which the answers lead, and the stack put so far; None if they lead beyond an out row."""
     row, stack = 0, chart.start
@@ -111,6 +117,25 @@ class AlikeTest(unittest.TestCase):
         for world in worlds(3):
             self.assertEqual(run(first, world) == run(second, world), True)
         self.assertEqual(parting(first, second).text[:3], "111")
+
+    def test_a_difference_beside_what_is_alike(self):
+        """Two choices: one has texts that are alike, the other has texts that are not."""
+        many = 0
+        for alike_ones in ALIKE:
+            for different in DIFFERENT:
+                for turned in (False, True):
+                    texts = [choice(*(pair[::-1] if turned else pair)) for pair in zip(alike_ones, different)]
+                    try:
+                        first, second = body_of(texts[0]), body_of(texts[1])
+                    except DeedError:
+                        # Too many statements, or too deep ones.
+                        continue
+                    for one, two in ((first, second), (second, first)):
+                        world = parting(one, two)
+                        self.assertIsNotNone(world, texts)
+                        self.assertNotEqual(run(one, world), run(two, world))
+                        many += 1
+        self.assertGreater(many, 1000)
 
     def test_what_differs_only_behind_an_answer_on_the_way_out(self):
         first = body_of(lines("put undo on error", "put turn on error", "put cure on error", "raise x"))

@@ -118,7 +118,10 @@ class KindTest(PolicyCase):
     def test_twice_and_what_does_not_occur(self):
         self.check(FAST, ["fast", "other", "fast"], [("return", 1), ("leave", "zero"), ("return", 1)], 1)
         self.check(FAST, ["other"], [("return", 1)], None)
-        self.check(FAST, ["work"], [("return", 2)], None)
+        # The name of a step is not that of a test.
+        self.check("do work", ["work"], [("return", 0)], None)
+        self.check(lines("if work", "  do work", "end", "leave x"), ["work"], [("leave", "x")], 1)
+        self.check(lines("if work", "end", "do work", "leave x"), ["work"], [("leave", "x")], None)
         self.check(FAST, ["fast"], [("leave", "fast"), ("return", 3)], None)
 
     def test_arguments_are_copied(self):

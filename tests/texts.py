@@ -19,6 +19,9 @@ ALIKE = (
     (lines("put work on done", "do gain", "put turn on done"), lines("do gain", "put work on done", "put turn on done")),
     (lines("put work on done", "if a", "  return 1", "end", "leave x"),
      lines("if a", "  put work on done", "  return 1", "end", "put work on done", "leave x")),
+    # Two actions that are put later, each behind another question.
+    (lines("put work on done", "put undo on done", "if a", "end", "if b", "end"),
+     lines("if a", "end", "put work on done", "if b", "end", "put undo on done")),
     # A loop unrolled once, and a loop that is turned.
     (LOOP, lines("if more", "  do work", "  put undo on error", *LOOP.split("\n")[:-1], "end", "return 1")),
     (lines("put work on done", "while a", "  put undo on done", "  put work on done", "end"),
@@ -45,6 +48,11 @@ DIFFERENT = (
     (lines("put undo on error", "put turn on error", "put work on done"),
      lines("put turn on error", "put undo on error", "put work on done")),
     ("put work on done [undo on error; gain on done]", lines("put undo on error", "put gain on done", "put work on done")),
+    ("put work on done [undo on error; gain on done]", "put work on done [turn on error; gain on done]"),
+    (lines("put undo on done", "put work on done [undo on error; gain on done]"),
+     lines("put turn on done", "put work on done [undo on error; gain on done]")),
+    (lines("put gain on done [undo on error; cure on done [turn on error; work on done]]"),
+     lines("put gain on done [undo on error; cure on done [undo on error; work on done]]")),
     (lines("put work on error", "put undo on done", "put gain on done"),
      lines("put undo on done", "put work on error", "put gain on done")),
     (LOOP, LOOP.replace("undo", "turn")), (LOOP, LOOP.replace("error", "always")),
