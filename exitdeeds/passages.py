@@ -61,7 +61,8 @@ def ways_on(body, rule):
     for row, before in into:
         asked = chart.rows[row][0]
         if asked[0] == "out":
-            found[(row, before, *asked[1:], rule.next_state(before, asked))] = None
+            _, left, store = asked
+            found[(row, before, left, store, rule.next_state(before, asked))] = None
     waiting = list(found)
     while waiting:
         key = waiting.pop()

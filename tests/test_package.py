@@ -71,6 +71,14 @@ class ImportTest(unittest.TestCase):
                 if isinstance(node, ast.Name):
                     self.assertNotIn(node.id, ("open", "print", "input", "eval", "exec", "id", "hash"))
 
+    def test_no_star_in_an_index_or_a_set(self):
+        for file in FOLDER.glob("*.py"):
+            for node in ast.walk(ast.parse(file.read_text(encoding="utf-8"))):
+                if isinstance(node, (ast.Subscript, ast.Set)):
+                    inside = [node.slice] if isinstance(node, ast.Subscript) else node.elts
+                    stars = [part for place in inside for part in ast.walk(place) if isinstance(part, ast.Starred)]
+                    self.assertEqual(stars, [], f"{file.name}, row {node.lineno}")
+
     def test_python_files_only(self):
         names = [file.name for file in FOLDER.iterdir() if file.name != "__pycache__"]
         self.assertEqual([name for name in names if not name.endswith(".py")], [])
